@@ -8,24 +8,11 @@ import (
 
 	"hydrocascade/api"
 	"hydrocascade/curve"
+	"hydrocascade/samples"
 )
 
-// sequence hands out the same numbers in every run.
-type sequence struct{ state uint64 }
-
-func (s *sequence) below(n int) int {
-	s.state = s.state*6364136223846793005 + 1442695040888963407
-	return int((s.state >> 33) % uint64(n))
-}
-
-// through returns the points whose numbers are X, Y, X, Y and so on.
-func through(numbers ...int) []api.Point {
-	var points []api.Point
-	for pair := range slices.Chunk(numbers, 2) {
-		points = append(points, api.Point{X: pair[0], Y: pair[1]})
-	}
-	return points
-}
+// through is short, because the tables consist of it.
+var through = samples.Through
 
 // flat returns so many points from first on, each so many to the right of the one before, all with the same Y.
 func flat(count, first, apart, y int) []api.Point {
@@ -219,22 +206,22 @@ func TestFirstAndLastOfNamedCases(t *testing.T) {
 }
 
 // smallCurve returns a valid curve that is short enough to look at each of its x.
-func smallCurve(numbers *sequence) []api.Point {
-	points := through(numbers.below(4), numbers.below(5))
-	for range numbers.below(6) {
+func smallCurve(numbers *samples.Sequence) []api.Point {
+	points := through(numbers.Below(4), numbers.Below(5))
+	for range numbers.Below(6) {
 		end := points[len(points)-1]
-		points = append(points, api.Point{X: end.X + 1 + numbers.below(7), Y: end.Y + numbers.below(3)*numbers.below(9)})
+		points = append(points, api.Point{X: end.X + 1 + numbers.Below(7), Y: end.Y + numbers.Below(3)*numbers.Below(9)})
 	}
 	return points
 }
 
 // greatCurve returns a valid curve of lines whose products are near the greatest.
-func greatCurve(numbers *sequence) []api.Point {
-	points := through(numbers.below(4), numbers.below(5))
-	for range 1 + numbers.below(4) {
+func greatCurve(numbers *samples.Sequence) []api.Point {
+	points := through(numbers.Below(4), numbers.Below(5))
+	for range 1 + numbers.Below(4) {
 		end := points[len(points)-1]
-		right := 1 + numbers.below(1<<(1+numbers.below(27)))
-		up := min(1<<62/right, 1<<36) - 1 - numbers.below(3)
+		right := 1 + numbers.Below(1<<(1+numbers.Below(27)))
+		up := min(1<<62/right, 1<<36) - 1 - numbers.Below(3)
 		points = append(points, api.Point{X: end.X + right, Y: end.Y + up})
 	}
 	return points
@@ -258,7 +245,7 @@ func exactValue(points []api.Point, x int) int {
 
 // P2.2, and the consequence that values do not fall.
 func TestAtIsExactAndDoesNotFall(t *testing.T) {
-	numbers := &sequence{}
+	numbers := &samples.Sequence{}
 	for range 500 {
 		small, great := smallCurve(numbers), greatCurve(numbers)
 		before := -1
@@ -273,7 +260,7 @@ func TestAtIsExactAndDoesNotFall(t *testing.T) {
 			before = got
 		}
 		for range 20 {
-			x := numbers.below(great[len(great)-1].X + 3)
+			x := numbers.Below(great[len(great)-1].X + 3)
 			got, code := curve.At(great, x)
 			if want := exactValue(great, x); got != want || code != api.OK {
 				t.Fatalf("%v: At(%d) = %d, %d; want %d", great, x, got, code, want)
@@ -298,7 +285,7 @@ func searched(points []api.Point, y int) (first, last found) {
 
 // P2.3 against a look at each x, and the consequence that from First on all values are at least y.
 func TestFirstAndLastFindWhatALookAtEachXFinds(t *testing.T) {
-	numbers := &sequence{}
+	numbers := &samples.Sequence{}
 	for range 1000 {
 		points := smallCurve(numbers)
 		for y := -2; y <= points[len(points)-1].Y+2; y++ {
@@ -321,13 +308,13 @@ func TestFirstAndLastFindWhatALookAtEachXFinds(t *testing.T) {
 
 // P2.3 where products are great: the values on both sides of what is found decide.
 func TestFirstAndLastAreExactOfGreatCurves(t *testing.T) {
-	numbers := &sequence{}
+	numbers := &samples.Sequence{}
 	for range 1000 {
 		points := greatCurve(numbers)
 		start, end := points[0], points[len(points)-1]
 		for range 20 {
-			near := exactValue(points, numbers.below(end.X+1))
-			y := min(max(start.Y, near-1+numbers.below(3)), end.Y)
+			near := exactValue(points, numbers.Below(end.X+1))
+			y := min(max(start.Y, near-1+numbers.Below(3)), end.Y)
 			first, is, code := curve.First(points, y)
 			if !is || code != api.OK || first < start.X || first > end.X || exactValue(points, first) < y || first > start.X && exactValue(points, first-1) >= y {
 				t.Fatalf("%v: First(%d) = %d, %t, %d", points, y, first, is, code)
@@ -415,7 +402,7 @@ func TestAddRefusesInvalidInputsInOrder(t *testing.T) {
 
 // P2.4 by its definition, and the consequence that At of the sum differs from the sum of both by at most 1.
 func TestAddHasTheSumsAtAllPointsAndIsNearThemInBetween(t *testing.T) {
-	numbers := &sequence{}
+	numbers := &samples.Sequence{}
 	for range 2000 {
 		a, b := smallCurve(numbers), smallCurve(numbers)
 		beforeA, beforeB := slices.Clone(a), slices.Clone(b)

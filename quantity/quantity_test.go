@@ -8,20 +8,13 @@ import (
 
 	"hydrocascade/api"
 	"hydrocascade/quantity"
+	"hydrocascade/samples"
 )
 
 // edges are numbers at which a range, a sign or the width of an int ends.
 var edges = []int{
 	math.MinInt, math.MinInt + 1, math.MinInt / 2, -api.MaxVolume - 1, -api.MaxVolume, -api.MaxLevel, -7, -3, -2, -1,
 	0, 1, 2, 3, 7, 10, api.MaxWeight, api.MaxWeight + 1, api.MaxLevel, api.MaxLevel + 1, api.MaxVolume - 1, api.MaxVolume, api.MaxVolume + 1, math.MaxInt / 2, math.MaxInt - 1, math.MaxInt,
-}
-
-// sequence hands out the same numbers in every run.
-type sequence struct{ state uint64 }
-
-func (s *sequence) below(n int) int {
-	s.state = s.state*6364136223846793005 + 1442695040888963407
-	return int((s.state >> 33) % uint64(n))
 }
 
 // floorOf is the exact floor of a / b, found with numbers of any length; b is not 0.
@@ -249,15 +242,15 @@ func exactShares(amount int, weights []int) []int {
 
 // P1.3 and the consequence that the shares add up to the amount.
 func TestShareIsExactAndAddsUp(t *testing.T) {
-	numbers := &sequence{}
+	numbers := &samples.Sequence{}
 	for range 3000 {
-		weights := make([]int, 1+numbers.below(12))
-		most := []int{2, 4, 30, api.MaxWeight + 1}[numbers.below(4)]
+		weights := make([]int, 1+numbers.Below(12))
+		most := []int{2, 4, 30, api.MaxWeight + 1}[numbers.Below(4)]
 		for i := range weights {
-			weights[i] = numbers.below(most)
+			weights[i] = numbers.Below(most)
 		}
-		weights[numbers.below(len(weights))] = 1
-		amount := []int{numbers.below(20), numbers.below(5000), api.MaxVolume - numbers.below(1000)}[numbers.below(3)]
+		weights[numbers.Below(len(weights))] = 1
+		amount := []int{numbers.Below(20), numbers.Below(5000), api.MaxVolume - numbers.Below(1000)}[numbers.Below(3)]
 		before := slices.Clone(weights)
 		got, code := quantity.Share(amount, weights)
 		if want := exactShares(amount, weights); !slices.Equal(got, want) || code != api.OK {
@@ -384,13 +377,13 @@ func checkCarryAgainstExact(t *testing.T, amount, num, den, carry int) {
 
 // The consequence of P1.4: the results add up to the floor of the sum of all, and nothing is lost on the way.
 func TestCarriedResultsAddUpToTheFloorOfTheSum(t *testing.T) {
-	numbers := &sequence{}
+	numbers := &samples.Sequence{}
 	for range 200 {
-		num, den := numbers.below(1000), 1+numbers.below(1000)
-		carry := numbers.below(den)
+		num, den := numbers.Below(1000), 1+numbers.Below(1000)
+		carry := numbers.Below(den)
 		exact, results := carry, 0
 		for range 100 {
-			amount := numbers.below(100000)
+			amount := numbers.Below(100000)
 			result, rest, code := quantity.Carry(amount, num, den, carry)
 			if code != api.OK {
 				t.Fatalf("Carry(%d, %d, %d, %d): error %d", amount, num, den, carry, code)
