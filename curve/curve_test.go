@@ -205,16 +205,6 @@ func TestFirstAndLastOfNamedCases(t *testing.T) {
 	}
 }
 
-// smallCurve returns a valid curve that is short enough to look at each of its x.
-func smallCurve(numbers *samples.Sequence) []api.Point {
-	points := through(numbers.Below(4), numbers.Below(5))
-	for range numbers.Below(6) {
-		end := points[len(points)-1]
-		points = append(points, api.Point{X: end.X + 1 + numbers.Below(7), Y: end.Y + numbers.Below(3)*numbers.Below(9)})
-	}
-	return points
-}
-
 // greatCurve returns a valid curve of lines whose products are near the greatest.
 func greatCurve(numbers *samples.Sequence) []api.Point {
 	points := through(numbers.Below(4), numbers.Below(5))
@@ -247,7 +237,7 @@ func exactValue(points []api.Point, x int) int {
 func TestAtIsExactAndDoesNotFall(t *testing.T) {
 	numbers := &samples.Sequence{}
 	for range 500 {
-		small, great := smallCurve(numbers), greatCurve(numbers)
+		small, great := samples.SmallCurve(numbers), greatCurve(numbers)
 		before := -1
 		for x := -2; x <= small[len(small)-1].X+2; x++ {
 			got, code := curve.At(small, x)
@@ -287,7 +277,7 @@ func searched(points []api.Point, y int) (first, last found) {
 func TestFirstAndLastFindWhatALookAtEachXFinds(t *testing.T) {
 	numbers := &samples.Sequence{}
 	for range 1000 {
-		points := smallCurve(numbers)
+		points := samples.SmallCurve(numbers)
 		for y := -2; y <= points[len(points)-1].Y+2; y++ {
 			first, last := searched(points, y)
 			x, is, code := curve.First(points, y)
@@ -404,7 +394,7 @@ func TestAddRefusesInvalidInputsInOrder(t *testing.T) {
 func TestAddHasTheSumsAtAllPointsAndIsNearThemInBetween(t *testing.T) {
 	numbers := &samples.Sequence{}
 	for range 2000 {
-		a, b := smallCurve(numbers), smallCurve(numbers)
+		a, b := samples.SmallCurve(numbers), samples.SmallCurve(numbers)
 		beforeA, beforeB := slices.Clone(a), slices.Clone(b)
 		got, code := curve.Add(a, b)
 		var want []api.Point

@@ -623,13 +623,6 @@ func TestSeriesIsTheLastReadingOfEachStep(t *testing.T) {
 	}
 }
 
-// window returns the elements within a longer slice, with others before them and room with others behind them, and the whole slice.
-func window[T any](elements []T, other T) (part, whole []T) {
-	const around = 5
-	whole = slices.Concat(slices.Repeat([]T{other}, around), elements, slices.Repeat([]T{other}, around))
-	return whole[around : around+len(elements)], whole
-}
-
 // R2: what is passed in stays as it is, also around it where the slice has room.
 func TestArgumentsAreNotChanged(t *testing.T) {
 	lists := validLists()
@@ -637,8 +630,8 @@ func TestArgumentsAreNotChanged(t *testing.T) {
 		lists[c.name] = c.list
 	}
 	for name, list := range lists {
-		l, whole := window(list, reading(9, 8, 7, 6))
-		b, wholeBytes := window(records(list...), 9)
+		l, whole := samples.Window(list, reading(9, 8, 7, 6))
+		b, wholeBytes := samples.Window(records(list...), 9)
 		wholeBefore, bytesBefore := slices.Clone(whole), slices.Clone(wholeBytes)
 		gauge.Encode(l)
 		gauge.Print(l)

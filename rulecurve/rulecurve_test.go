@@ -510,17 +510,6 @@ func TestHighestOfNamedCases(t *testing.T) {
 	}
 }
 
-// window returns the points within a longer slice, with other points before them and room with other points behind them, and the whole slice.
-func window(points []api.Point) (part, whole []api.Point) {
-	const around = 5
-	whole = make([]api.Point, len(points)+2*around)
-	for i := range whole {
-		whole[i] = api.Point{X: 1000 + i, Y: -1000 - i}
-	}
-	copy(whole[around:], points)
-	return whole[around : around+len(points)], whole
-}
-
 // callAll calls all functions on each day of the year, and with numbers that are refused.
 func callAll(r api.Reservoir, c []api.Point) {
 	rulecurve.Check(c)
@@ -539,11 +528,12 @@ func TestArgumentsAreNotChanged(t *testing.T) {
 	for _, c := range refusedCurves() {
 		curves[c.name] = c.curve
 	}
+	other := api.Point{X: 1000, Y: -1000}
 	for name, points := range curves {
-		c, whole := window(points)
+		c, whole := samples.Window(points, other)
 		r := lake()
 		var volumes []api.Point
-		r.Storage, volumes = window(r.Storage)
+		r.Storage, volumes = samples.Window(r.Storage, other)
 		wholeBefore, volumesBefore := slices.Clone(whole), slices.Clone(volumes)
 		callAll(r, c)
 		if !slices.Equal(whole, wholeBefore) {

@@ -1,7 +1,11 @@
 // Package samples makes inputs for the tests of several layers; no layer uses it.
 package samples
 
-import "hydrocascade/api"
+import (
+	"slices"
+
+	"hydrocascade/api"
+)
 
 // Sequence hands out the same numbers in every run, so that a test that fails once fails always; its zero value is ready.
 type Sequence struct{ state uint64 }
@@ -19,4 +23,22 @@ func Through(numbers ...int) []api.Point {
 		points = append(points, api.Point{X: numbers[i-1], Y: numbers[i]})
 	}
 	return points
+}
+
+// SmallCurve returns a valid curve that is short enough to look at each of its X.
+func SmallCurve(numbers *Sequence) []api.Point {
+	points := Through(numbers.Below(4), numbers.Below(5))
+	for range numbers.Below(6) {
+		end := points[len(points)-1]
+		points = append(points, api.Point{X: end.X + 1 + numbers.Below(7), Y: end.Y + numbers.Below(3)*numbers.Below(9)})
+	}
+	return points
+}
+
+// Window returns the elements within a longer slice, with others before them and room with others behind them, and the whole slice: who changes an argument, or appends to it, is seen in the whole.
+func Window[T any](elements []T, other T) (part, whole []T) {
+	const around = 5
+	others := slices.Repeat([]T{other}, around)
+	whole = slices.Concat(others, elements, others)
+	return whole[around : around+len(elements)], whole
 }

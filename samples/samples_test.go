@@ -5,6 +5,7 @@ import (
 	"testing"
 
 	"hydrocascade/api"
+	"hydrocascade/curve"
 	"hydrocascade/samples"
 )
 
@@ -30,5 +31,31 @@ func TestThroughPairsTheNumbers(t *testing.T) {
 	}
 	if got := samples.Through(); len(got) != 0 {
 		t.Errorf("no numbers give %v", got)
+	}
+}
+
+func TestSmallCurvesAreValidAndSmall(t *testing.T) {
+	numbers := &samples.Sequence{}
+	sizes := map[int]bool{}
+	for range 1000 {
+		points := samples.SmallCurve(numbers)
+		if code := curve.Check(points); code != api.OK || points[len(points)-1].X > 50 {
+			t.Fatalf("%v: error %d", points, code)
+		}
+		sizes[len(points)] = true
+	}
+	if len(sizes) != 6 {
+		t.Errorf("the curves have %d different numbers of points", len(sizes))
+	}
+}
+
+func TestWindowHasOthersAround(t *testing.T) {
+	elements := []int{1, 2, 3}
+	part, whole := samples.Window(elements, 9)
+	if !slices.Equal(part, elements) || !slices.Equal(whole, []int{9, 9, 9, 9, 9, 1, 2, 3, 9, 9, 9, 9, 9}) {
+		t.Errorf("%v in %v", part, whole)
+	}
+	if cap(part) <= len(part) || &part[0] != &whole[5] || &part[0] == &elements[0] {
+		t.Error("the part has no room behind it, is no part of the whole, or is that which was passed")
 	}
 }
